@@ -1,0 +1,84 @@
+"""The package keeps to what can be counted of the rules for its code: sizes, signs, imports, kinds of statements."""
+
+import ast
+import os
+import unittest
+
+HOME = os.path.join(os.path.dirname(os.path.dirname(os.path.abspath(__file__))), "frozenmakers")
+LIBRARY = {
+    "heapq": {"heappush", "heappop", "heapify", "heapreplace", "heappushpop"},
+    "math": {"gcd", "lcm", "isqrt", "comb", "perm", "factorial"},
+    "itertools": {
+        "product", "combinations", "permutations", "chain", "accumulate", "pairwise", "islice", "zip_longest",
+    },
+    "collections": {"defaultdict", "deque"},
+}
+BARRED = {
+    "open", "input", "eval", "exec", "compile", "globals", "locals", "vars", "dir", "hash", "id", "filter", "print", "float",
+    "bytearray", "memoryview", "chr", "round", "slice", "callable", "delattr", "issubclass",
+}
+BARRED_NODES = (ast.AsyncFunctionDef, ast.Await, ast.AsyncFor, ast.AsyncWith, ast.Div)
+# These take lists, for some classes of the package tell themselves what is equal to them.
+LISTED = {"any", "all", "min", "max", "sum", "sorted"}
+
+
+def sources():
+    """The name and the text of each file of the package."""
+    found = []
+    for name in sorted(os.listdir(HOME)):
+        if name != "__pycache__":
+            with open(os.path.join(HOME, name), encoding="utf-8") as file:
+                found.append((name, file.read()))
+    return found
+
+
+class Rules(unittest.TestCase):
+    def test_files(self):
+        self.assertIn("__init__.py", [name for name, _ in sources()])
+        for name, text in sources():
+            self.assertRegex(name, r"\A[a-z0-9_]+\.py\Z")
+            rows = text.split("\n")
+            self.assertLessEqual(len(rows), 399, name)
+            self.assertLessEqual(max(len(row) for row in rows), 120, name)
+            self.assertTrue(all(sign == "\n" or " " <= sign <= "~" for sign in text), name)
+
+    def test_functions_are_short(self):
+        for name, text in sources():
+            for node in ast.walk(ast.parse(text)):
+                if isinstance(node, ast.FunctionDef):
+                    self.assertLessEqual(node.end_lineno - node.lineno + 1, 40, (name, node.name))
+                    self.assertEqual([], [each for each in node.decorator_list if not isinstance(each, ast.Name)])
+
+    def test_imports(self):
+        for name, text in sources():
+            for node in ast.walk(ast.parse(text)):
+                self.assertNotIsInstance(node, ast.Import, name)
+                if isinstance(node, ast.ImportFrom):
+                    self.assertEqual(0, node.level, name)
+                    told = {each.name for each in node.names}
+                    if not node.module.startswith("frozenmakers."):
+                        self.assertLessEqual(told, LIBRARY.get(node.module, set()), name)
+
+    def test_statements_and_names(self):
+        for name, text in sources():
+            for node in ast.walk(ast.parse(text)):
+                self.assertNotIsInstance(node, BARRED_NODES, (name, getattr(node, "lineno", 0)))
+                if isinstance(node, ast.Name):
+                    self.assertNotIn(node.id, BARRED, (name, node.lineno))
+                if isinstance(node, ast.Call) and isinstance(node.func, ast.Name) and node.func.id in LISTED:
+                    self.assertNotIsInstance(node.args[0], ast.GeneratorExp, (name, node.lineno))
+                if isinstance(node, ast.Constant):
+                    self.assertNotIsInstance(node.value, (float, complex, bytes), (name, node.lineno))
+
+    def test_module_level(self):
+        allowed = (ast.ImportFrom, ast.FunctionDef, ast.ClassDef, ast.Assign)
+        for name, text in sources():
+            for at, node in enumerate(ast.parse(text).body):
+                if at == 0:
+                    self.assertIsInstance(node.value.value, str, name)
+                else:
+                    self.assertIsInstance(node, allowed, (name, node.lineno))
+
+
+if __name__ == "__main__":
+    unittest.main()
