@@ -2,6 +2,8 @@
 
 from frozenmakers.books import MODULUS, Book, Function
 from frozenmakers.errors import NoBook
+from frozenmakers.plain import Plain
+from frozenmakers.texts import book_of
 
 NONE = ("none",)
 ONE = ("number", 1)
@@ -114,3 +116,24 @@ def refused(case, what, call, **fields):
         call()
     case.assertIs(what, seen.exception.__class__)
     case.assertEqual(fields, vars(seen.exception))
+
+
+def book(text):
+    """The book of a text, in which its rows may be parted by semicolons."""
+    return book_of("".join(row.strip() + "\n" for row in text.replace(";", "\n").split("\n") if row.strip()))
+
+
+def plain(text, **more):
+    """A plain run of the book of such a text."""
+    return Plain(book(text), **more)
+
+
+def done(run, *deeds):
+    """What is told of each deed, of the way, the maker's number, and what is sent or tossed."""
+    return [getattr(run, way)(*rest) for way, *rest in deeds]
+
+
+def seen(run):
+    """All that a plain run tells of its makers without asking them."""
+    numbers = range(1, len(run) + 1)
+    return [run.said(), [(run.state(k), run.alive(k), run.held(k)) for k in numbers]]

@@ -1,6 +1,7 @@
 """The package keeps to what can be counted of the rules for its code: sizes, signs, imports, kinds of statements."""
 
 import ast
+import builtins
 import os
 import unittest
 
@@ -69,6 +70,42 @@ class Rules(unittest.TestCase):
                     self.assertNotIsInstance(node.args[0], ast.GeneratorExp, (name, node.lineno))
                 if isinstance(node, ast.Constant):
                     self.assertNotIsInstance(node.value, (float, complex, bytes), (name, node.lineno))
+
+    def test_names_of_methods_and_attributes_are_unlike(self):
+        methods, attributes = set(), set()
+        for name, text in sources():
+            for node in ast.walk(ast.parse(text)):
+                if isinstance(node, ast.ClassDef):
+                    methods |= {each.name for each in node.body if isinstance(each, ast.FunctionDef)}
+                if isinstance(node, ast.Attribute) and isinstance(node.ctx, ast.Store):
+                    attributes.add(node.attr)
+        self.assertEqual(set(), methods & attributes)
+
+    def test_no_name_of_an_import_or_a_builtin_means_anything_else(self):
+        for name, text in sources():
+            tree = ast.parse(text)
+            taken = set(dir(builtins))
+            for node in tree.body:
+                if isinstance(node, ast.ImportFrom):
+                    taken |= {each.name for each in node.names}
+                if isinstance(node, ast.ClassDef):
+                    taken.add(node.name)
+            for node in ast.walk(tree):
+                if isinstance(node, ast.Name) and isinstance(node.ctx, ast.Store):
+                    self.assertNotIn(node.id, taken, (name, node.lineno))
+                if isinstance(node, ast.arg):
+                    self.assertNotIn(node.arg, taken, (name, node.lineno))
+
+    def test_tables_at_module_level_are_only_read(self):
+        for name, text in sources():
+            tree = ast.parse(text)
+            tables = {
+                each.targets[0].id for each in tree.body if isinstance(each, ast.Assign) and isinstance(each.value, (ast.Dict, ast.List))
+            }
+            for node in ast.walk(tree):
+                if isinstance(node, ast.Call):
+                    passed = {each.id for each in node.args if isinstance(each, ast.Name)}
+                    self.assertEqual(set(), passed & tables, (name, node.lineno))
 
     def test_module_level(self):
         allowed = (ast.ImportFrom, ast.FunctionDef, ast.ClassDef, ast.Assign)
