@@ -4,6 +4,7 @@ A place is a pair: a level, and the number of the next statement of its body; be
 """
 
 from frozenmakers.books import STATEMENTS
+from frozenmakers.worths import boxes_in
 
 # The ways out of a body, and those of them that carry a worth: what is returned, and the number of a fault.
 WAYS = ("end", "break", "again", "return", "fault", "closing")
@@ -136,21 +137,9 @@ def _expressions_of(statement):
     return found
 
 
-def _boxes_in(expressions):
-    found = []
-    waiting = list(expressions)
-    while waiting:
-        expression = waiting.pop()
-        if expression[0] == "box":
-            found.append(expression[1])
-        elif expression[0] not in ("number", "none"):
-            waiting.extend(expression[1:])
-    return found
-
-
 def reads_of(place):
     """The boxes that are read at a place; at the end of a final that keeps a worth, the box of that."""
     level, at = place
     if at < len(level.body):
-        return _boxes_in(_expressions_of(level.body[at]))
+        return boxes_in(_expressions_of(level.body[at]))
     return [] if level.box is None else [level.box]

@@ -1,15 +1,11 @@
 """Plain runs: makers that go by the text."""
 
+from frozenmakers.by_text import TextRun
+from frozenmakers.checks import look_at_beginning, look_at_number, look_at_worth, look_for
 from frozenmakers.courses import Course
-from frozenmakers.errors import NoMaker, NoName, NoThings, NoWorth
-from frozenmakers.running import Run
-from frozenmakers.worths import is_number, is_there, is_worth
+from frozenmakers.worths import in_order
 
 MOST = 2000
-
-
-def _is_list_of_worths(things, makers):
-    return type(things) in (list, tuple) and all([is_worth(thing, makers) for thing in things])
 
 
 class Plain:
@@ -17,6 +13,7 @@ class Plain:
 
     def __init__(self, book, *, most=MOST):
         self._courses = {function.name: Course(function) for function in book.functions}
+        self._params = {function.name: function.params for function in book.functions}
         self._most = most
         self._makers = {}
         self._said = []
@@ -24,49 +21,39 @@ class Plain:
     def __len__(self):
         return len(self._makers)
 
-    def _found(self, k):
-        if not is_there(k, self._makers):
-            raise NoMaker(k)
-        return self._makers[k]
-
     def _take(self, run):
         self._makers = run.makers
         self._said.extend(run.heard)
 
     def _told(self, way, k, worth):
-        run = Run(self._courses, self._makers, self._most)
+        run = TextRun(self._courses, self._makers, self._most)
         told = run.told(way, k, worth)
         self._take(run)
         return told
 
     def begin(self, name, things=()):
         """The number of a new maker of the function of this name."""
-        if type(name) is not str or name not in self._courses:
-            raise NoName(name)
-        if not _is_list_of_worths(things, self._makers) or len(things) != len(self._courses[name].params):
-            raise NoThings("no list of as many worths that are there as the function has params")
-        run = Run(self._courses, self._makers, self._most)
+        look_at_beginning(self._params, self._makers, name, things)
+        run = TextRun(self._courses, self._makers, self._most)
         number = run.make(name, things)
         self._take(run)
         return number
 
     def ask(self, k, worth=None):
         """What comes of asking a maker with a worth."""
-        self._found(k)
-        if not is_worth(worth, self._makers):
-            raise NoWorth("no worth that is there")
+        look_for(self._makers, k)
+        look_at_worth(self._makers, worth)
         return self._told("ask", k, worth)
 
     def toss(self, k, number):
         """What comes of tossing a maker a number."""
-        self._found(k)
-        if not is_number(number):
-            raise NoWorth("no number that can be tossed")
+        look_for(self._makers, k)
+        look_at_number(number)
         return self._told("toss", k, number)
 
     def close(self, k):
         """What comes of closing a maker."""
-        self._found(k)
+        look_for(self._makers, k)
         return self._told("close", k, None)
 
     def said(self):
@@ -75,7 +62,7 @@ class Plain:
 
     def state(self, k):
         """Whether a maker is "new", "stands" or is "over"."""
-        return self._found(k).stage
+        return look_for(self._makers, k).stage
 
     def _alive_names(self, maker):
         """The boxes of a maker that are alive, those that returns are kept in with them, rising."""
@@ -84,23 +71,14 @@ class Plain:
             return []
         if maker.stage == "new":
             return course.alive_when_new()
-        return course.alive_behind(maker.place)
+        return course.alive_behind(maker.spot)
 
     def alive(self, k):
         """The boxes that some way on from where the maker is reads ahead of setting them, rising."""
         # Boxes in which a worth is kept through finals have a figure in their names; the text knows of none of them.
-        return tuple([name for name in self._alive_names(self._found(k)) if name.isalpha()])
+        return tuple([name for name in self._alive_names(look_for(self._makers, k)) if name.isalpha()])
 
     def held(self, k):
         """The numbers of the makers that a maker holds, each once."""
-        maker = self._found(k)
-        names = self._alive_names(maker)
-        worths = [maker.boxes.get(name) for name in names if name.isalpha()]
-        worths.extend([maker.boxes.get(name) for name in names if not name.isalpha()])
-        if maker.passing is not None:
-            worths.append(("maker", maker.passing))
-        found = {}
-        for worth in worths:
-            if type(worth) is tuple:
-                found[worth[1]] = True
-        return list(found)
+        maker = look_for(self._makers, k)
+        return maker.held_in(in_order(self._alive_names(maker)))

@@ -1,4 +1,4 @@
-"""Makers that run by the text, one asking at a time."""
+"""What makers do that are asked, be it by the text or by rows."""
 
 from frozenmakers.books import BUSY, DEEP, STUBBORN
 from frozenmakers.errors import TooLong
@@ -8,55 +8,26 @@ MOST_RUNNING = 12
 
 
 class Maker:
-    """A maker: where it is, and what its boxes hold."""
+    """A maker: where it is, and what its boxes hold.
 
-    def __init__(self, number, name, boxes, place, stage="new", passing=None):
+    Those that go by the text and those that go by rows tell each by itself: statement, at which it is; go_behind it;
+    go_into a body of it; leave, which tells what comes of it where it leaves the maker, else None.
+    """
+
+    def __init__(self, number, name, worths, spot, stage="new", passing=None):
         self.number = number
         self.name = name
-        # With them the boxes in which worths are kept through finals; one that isn't there holds None.
-        self.boxes = boxes
-        self.place = place
+        # What each box holds; one that isn't there holds None.
+        self.worths = worths
+        self.spot = spot
         # "new", "stands", "runs" or "over".
         self.stage = stage
         # Where it stands at an all: the number of the maker to which it passes on what it is asked.
         self.passing = passing
 
-    def twin(self):
-        """One that is as this one is."""
-        return Maker(self.number, self.name, dict(self.boxes), self.place, self.stage, self.passing)
-
     def worth_of(self, expression):
         """What an expression comes to here."""
-        return worked_out(expression, self.boxes)
-
-    def statement(self):
-        """The statement at which it is, None at the end of a body."""
-        level, at = self.place
-        return level.body[at] if at < len(level.body) else None
-
-    def go_behind(self):
-        """Goes on behind its statement."""
-        level, at = self.place
-        self.place = (level, at + 1)
-
-    def go_into(self, word):
-        """Goes on to the beginning of a body of its statement."""
-        level, at = self.place
-        self.place = (level.inner(at, word), 0)
-
-    def leave(self, way, worth=None):
-        """Leaves its body; tells what comes of it where it leaves the maker, else None."""
-        level, _ = self.place
-        if way == "end" and level.box is not None:
-            worth = self.boxes[level.box]
-        onward, place, box = level.exits[way]
-        if place is None:
-            self.finish()
-            return ("raised", worth) if onward == "fault" else ("ended", worth)
-        self.place = place
-        if box is not None:
-            self.boxes[box] = worth
-        return None
+        return worked_out(expression, self.worths)
 
     def stand(self, worth, passing=None):
         """Gives a worth, and stands at its statement."""
@@ -67,13 +38,24 @@ class Maker:
     def finish(self):
         """Is over."""
         self.stage = "over"
-        self.boxes = {}
+        self.worths = {}
         self.passing = None
+
+    def held_in(self, names):
+        """The numbers of the makers in these boxes, then of the one of its all, each once."""
+        worths = [self.worths.get(name) for name in names]
+        if self.passing is not None:
+            worths.append(("maker", self.passing))
+        found = {}
+        for worth in worths:
+            if type(worth) is tuple:
+                found[worth[1]] = True
+        return list(found)
 
 
 # What each statement does, of a maker that runs; told is what comes of it where the maker gives or is over, else None.
 def _set(run, maker, statement):
-    maker.boxes[statement[1]] = maker.worth_of(statement[2])
+    maker.worths[statement[1]] = maker.worth_of(statement[2])
     maker.go_behind()
 
 
@@ -114,19 +96,19 @@ def _try(run, maker, statement):
 
 
 def _make(run, maker, statement):
-    _, box, name, things = statement
-    maker.boxes[box] = ("maker", run.make(name, [maker.worth_of(thing) for thing in things]))
+    box, name, things = statement[1:4]
+    maker.worths[box] = ("maker", run.make(name, [maker.worth_of(thing) for thing in things]))
     maker.go_behind()
 
 
 def _pull(run, maker, statement):
-    _, box, way, asked, sent, _ = statement
+    box, way, asked, sent = statement[1:5]
     number = maker_of(maker.worth_of(asked))
     worth = maker.worth_of(sent)
     if way == "toss":
         number_of(worth)
     told = run.told_within(way, number, worth)
-    maker.boxes[box] = told[1]
+    maker.worths[box] = told[1]
     if told[0] == "ended":
         maker.go_into("pull")
     else:
@@ -145,27 +127,28 @@ def _all(run, maker, statement):
 ACTIONS = {
     "set": _set, "say": _say, "give": _give, "if": _if, "while": _while, "break": _leave, "again": _leave,
     "return": _return, "throw": _throw, "try": _try, "make": _make, "pull": _pull, "close": _close, "all": _all,
+    "end": _leave,
 }
 
 
 class Run:
-    """One asking: it goes on with makers of its own, so that nothing is changed where it goes too far."""
+    """Makers by their numbers, asked from outside and by one another; those below it make makers of their kind."""
 
-    def __init__(self, courses, makers, most):
-        self.courses = courses
-        self.makers = {number: makers[number].twin() for number in makers}
+    def __init__(self, makers, last, most=None):
+        self.makers = makers
+        # The last number told to a maker.
+        self.last = last
         self.heard = []
-        self.most = most
-        # How many statements are begun, and how many makers run.
+        # How many statements are begun, and how many may be; None is for any number of them.
         self.begun = 0
+        self.most = most
+        # How many makers run.
         self.running = 0
 
-    def make(self, name, things):
-        """Makes a new maker; tells its number."""
-        course = self.courses[name]
-        number = len(self.makers) + 1
-        self.makers[number] = Maker(number, name, dict(zip(course.params, things)), course.first)
-        return number
+    def take_in(self, maker):
+        """Takes in a new maker, which has the number behind the last one."""
+        self.last = maker.number
+        self.makers[maker.number] = maker
 
     def told(self, way, number, worth):
         """What comes of asking, tossing or closing a maker that doesn't run."""
@@ -209,7 +192,7 @@ class Run:
             return maker.leave("fault", worth)
         if way == "close":
             return maker.leave("closing")
-        maker.boxes[statement[1]] = worth
+        maker.worths[statement[1]] = worth
         maker.go_behind()
         return None
 
@@ -220,7 +203,7 @@ class Run:
             return maker.stand(told[1], inner)
         if told[0] == "closed":
             return maker.leave("closing")
-        maker.boxes[maker.statement()[1]] = told[1]
+        maker.worths[maker.statement()[1]] = told[1]
         maker.go_behind()
         return None
 
@@ -230,7 +213,7 @@ class Run:
         if statement is None:
             return maker.leave("end")
         self.begun += 1
-        if self.begun > self.most:
+        if self.most is not None and self.begun > self.most:
             raise TooLong(self.most)
         action = ACTIONS[statement[0]]
         try:

@@ -5,20 +5,23 @@ from frozenmakers.books import EXPRESSIONS, MODULUS
 MOST_SIGNS = 8
 SIGNS = "abcdefghijklmnopqrstuvwxyz0123456789"
 
-# The kinds of what stands behind the first word of each row.
+# The kinds of what stands behind the first word of each row; to, yes, no and over are numbers of rows.
 ROWS = {
-    "set": ("box", "expression", "row"),
-    "say": ("expression", "row"),
-    "if": ("expression", "row", "row"),
-    "make": ("box", "function", "things", "row"),
-    "give": ("box", "expression", "row"),
-    "pull": ("box", "way", "expression", "expression", "row", "row"),
-    "close": ("expression", "row"),
-    "all": ("box", "expression", "row"),
+    "set": ("box", "expression", "to"),
+    "say": ("expression", "to"),
+    "if": ("expression", "yes", "no"),
+    "make": ("box", "function", "things", "to"),
+    "give": ("box", "expression", "to"),
+    "pull": ("box", "way", "expression", "expression", "to", "over"),
+    "close": ("expression", "to"),
+    "all": ("box", "expression", "to"),
     "throw": ("expression",),
     "return": ("expression",),
     "end": (),
 }
+GOING_ON = ("to", "yes", "no", "over")
+# The rows at which a maker can stand.
+STANDING = ("give", "all")
 
 
 def _rising(thing):
@@ -49,20 +52,22 @@ class Table:
         )
 
 
-def _is_box(thing):
+def is_box(thing):
+    """Whether a thing of any kind is a box of a table."""
     if type(thing) is not str or not 1 <= len(thing) <= MOST_SIGNS:
         return False
     return all([sign in SIGNS for sign in thing])
 
 
-def _is_row_number(thing, many):
+def is_row_number(thing, many):
+    """Whether a thing of any kind is the number of one of so many rows."""
     return type(thing) is int and 0 <= thing < many
 
 
 def _is_atom(kind, thing):
     if kind == "number":
         return type(thing) is int and 0 <= thing < MODULUS
-    return _is_box(thing)
+    return is_box(thing)
 
 
 def _fits(thing, kinds):
@@ -95,9 +100,9 @@ def _is_expression(thing):
 def _is_part(kind, part, many):
     """Whether a thing of any kind is a part of that kind, of a table with so many rows."""
     if kind == "box":
-        return _is_box(part)
-    if kind == "row":
-        return _is_row_number(part, many)
+        return is_box(part)
+    if kind in GOING_ON:
+        return is_row_number(part, many)
     if kind == "way":
         return type(part) is str and part in ("ask", "toss")
     if kind == "function":
@@ -120,9 +125,9 @@ def _are_lands(thing, many):
         return False
     for key in thing:
         pair = thing[key]
-        if not _is_row_number(key, many) or type(pair) is not tuple or len(pair) != 2:
+        if not is_row_number(key, many) or type(pair) is not tuple or len(pair) != 2:
             return False
-        if not _is_row_number(pair[0], many) or not _is_box(pair[1]):
+        if not is_row_number(pair[0], many) or not is_box(pair[1]):
             return False
     return True
 
@@ -131,9 +136,9 @@ def _are_closes(thing, rows):
     if type(thing) is not dict:
         return False
     for key in thing:
-        if not _is_row_number(key, len(rows)) or rows[key][0] not in ("give", "all"):
+        if not is_row_number(key, len(rows)) or rows[key][0] not in STANDING:
             return False
-        if not _is_row_number(thing[key], len(rows)):
+        if not is_row_number(thing[key], len(rows)):
             return False
     return True
 

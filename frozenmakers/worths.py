@@ -74,3 +74,21 @@ def worked_out(expression, boxes):
     if word == "same":
         return 1 if one == other else 0
     return _joined(word, number_of(one), number_of(other))
+
+
+def boxes_in(expressions):
+    """The boxes that a list of expressions reads, each once."""
+    found = {}
+    waiting = list(expressions)
+    while waiting:
+        expression = waiting.pop()
+        if expression[0] == "box":
+            found[expression[1]] = True
+        elif expression[0] not in ("number", "none"):
+            waiting.extend(expression[1:])
+    return list(found)
+
+
+def in_order(boxes):
+    """The rising boxes in the order in which they are looked through: first those without figures."""
+    return [*[box for box in boxes if box.isalpha()], *[box for box in boxes if not box.isalpha()]]

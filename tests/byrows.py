@@ -63,11 +63,17 @@ class Rower:
         self.inner = None
 
 
-class Rows:
-    """A house of makers by tables; it has no bound for how long an asking is."""
+class Long(Exception):
+    """Too many rows."""
 
-    def __init__(self, tables):
+
+class Rows:
+    """A house of makers by tables; of an asking by which more than most rows are done it is of no use any more."""
+
+    def __init__(self, tables, most=10 ** 6):
         self.tables = tables
+        self.most = most
+        self.done = 0
         self.alive = {name: alive_rows(tables[name]) for name in tables}
         self.makers = {}
         self.said = []
@@ -174,6 +180,9 @@ class Rows:
         return None
 
     def step(self, maker):
+        self.done += 1
+        if self.done > self.most:
+            raise Long()
         row = maker.table.rows[maker.row]
         word = row[0]
         if word == "end":
