@@ -35,6 +35,10 @@ class House:
     def __init__(self, book, *, tables=None):
         self.run = RowRun(_charts_of(book, tables))
         self.params = {function.name: function.params for function in book.functions}
+        # The numbers of makers that are pinned.
+        self.pins = {}
+        # The rows of the log.
+        self.deeds = []
 
     def __len__(self):
         return len(self.run.makers)
@@ -42,24 +46,36 @@ class House:
     def begin(self, name, things=()):
         """The number of a new maker of the function of this name."""
         look_at_beginning(self.params, self.run.makers, name, things)
-        return self.run.make(name, things)
+        number = self.run.make(name, things)
+        self.deeds.append(("begin", name, tuple(things), number))
+        return number
 
     def ask(self, k, worth=None):
         """What comes of asking a maker with a worth."""
         look_for(self.run.makers, k)
         look_at_worth(self.run.makers, worth)
-        return self.run.told("ask", k, worth)
+        told = self.run.told("ask", k, worth)
+        self.deeds.append(("ask", k, worth, told))
+        return told
 
     def toss(self, k, number):
         """What comes of tossing a maker a number."""
         look_for(self.run.makers, k)
         look_at_number(number)
-        return self.run.told("toss", k, number)
+        told = self.run.told("toss", k, number)
+        self.deeds.append(("toss", k, number, told))
+        return told
 
     def close(self, k):
         """What comes of closing a maker."""
         look_for(self.run.makers, k)
-        return self.run.told("close", k, None)
+        told = self.run.told("close", k, None)
+        self.deeds.append(("close", k, told))
+        return told
+
+    def log(self):
+        """The rows of all deeds that were not refused."""
+        return list(self.deeds)
 
     def said(self):
         """All that was said, pairs of a maker's number and a worth."""

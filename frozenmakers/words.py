@@ -31,6 +31,30 @@ PIECES = {
 }
 
 
+def number_in(word):
+    """The number that a word is, None where it is none."""
+    if not word.isascii() or not word.isdigit() or len(word) > MOST_FIGURES:
+        return None
+    return None if word[0] == "0" and len(word) > 1 else int(word)
+
+
+def worth_in(word):
+    """The worth that a word is: a number, "none", or of a maker what a worth is; None where it is none."""
+    if word == "none":
+        return "none"
+    if not word.startswith("@"):
+        return number_in(word)
+    number = number_in(word[1:])
+    return None if number is None else ("maker", number)
+
+
+def word_of(worth):
+    """The word that a worth is written by."""
+    if worth is None:
+        return "none"
+    return f"@{worth[1]}" if type(worth) is tuple else str(worth)
+
+
 def _atom_of(word):
     """What a word without brackets stands for: an expression, a sign as it is, or None."""
     if word in SIGN_WORDS:
@@ -39,9 +63,8 @@ def _atom_of(word):
         return ("none",)
     if is_name(word):
         return ("box", word)
-    if word.isascii() and word.isdigit() and len(word) <= MOST_FIGURES and (word == "0" or word[0] != "0"):
-        return ("number", int(word))
-    return None
+    number = number_in(word)
+    return None if number is None else ("number", number)
 
 
 def _joined(held):
