@@ -15,7 +15,8 @@ def _gathered(house, k):
     known = {k: True}
     at = 0
     while at < len(order):
-        for number in house.held(order[at]):
+        holder = order[at]
+        for number in house.held(holder):
             if number not in known:
                 known[number] = True
                 order.append(number)

@@ -158,7 +158,8 @@ def _met(table, group_of):
     known = {group_of[0]: True}
     at = 0
     while at < len(order):
-        for target in _goes_on(table, order[at]).values():
+        number = order[at]
+        for target in _goes_on(table, number).values():
             if group_of[target] not in known:
                 known[group_of[target]] = True
                 order.append(target)

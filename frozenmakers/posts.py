@@ -18,7 +18,7 @@ class Post:
         # In the order in which they were laid.
         self._letters = []
         # For each house pairs of a letter and the row of sending or taking it in that house's log.
-        self._records = [[] for _ in range(many)]
+        self._handed = [[] for _ in range(many)]
 
     def lying(self):
         """The texts that lie there, each behind the house for which it was laid."""
@@ -35,24 +35,24 @@ class Post:
         """Lays what a house sent, its log having that row of it."""
         letter = Letter(to, row[-1])
         self._letters.append(letter)
-        self._records[house].append((letter, row))
+        self._handed[house].append((letter, row))
 
     def hand_over(self, house, letter, row):
         """Lets a house have a letter, its log having that row of taking it."""
         letter.lies = False
-        self._records[house].append((letter, row))
+        self._handed[house].append((letter, row))
 
     def can_undo(self, house):
         """Whether the last sending or taking of a house can be undone: what was sent must still lie there."""
-        letter, row = self._records[house][-1]
+        letter, row = self._handed[house][-1]
         return row[0] == "thaw" or letter.lies
 
     def undo(self, house):
         """Undoes the last sending or taking of a house."""
-        letter, row = self._records[house].pop()
+        letter, row = self._handed[house].pop()
         # What had been taken lies again where it lay.
         letter.lies = row[0] == "thaw"
 
     def rows_of(self, house):
         """The rows of all that a house has sent and taken."""
-        return [row for _, row in self._records[house]]
+        return [row for _, row in self._handed[house]]

@@ -1,5 +1,7 @@
 """[8.1]: makers frozen as text, sign by sign, and thawed; pins; what is refused changes nothing."""
 
+import random
+import re
 import unittest
 
 from chance import chance_book
@@ -526,6 +528,88 @@ class NoThaws(NoTexts):
         refused(self, NoThaw, lambda: thaw(other, rows("frozen 1", "maker f 0", "box b 8")), at=0)
         refused(self, NoThaw, lambda: thaw(other, rows("frozen 2", "maker g new", "maker g 0")), at=1)
         self.assertEqual([1], thaw(other, rows("frozen 1", "maker f 0", "box a 7", "box b 8")))
+
+
+NUMBER = r"(0|[1-9][0-9]{0,6})"
+WORTH = rf"({NUMBER}|none|@{NUMBER})"
+NAME = "[a-z]{1,8}"
+ROWS = {
+    "maker": re.compile(rf"maker ({NAME}) (new|over|{NUMBER})"), "thing": re.compile(rf"thing {WORTH}"),
+    "box": re.compile(rf"box ([a-z0-9]{{1,8}}) {WORTH}"), "inner": re.compile(rf"inner {WORTH}"),
+}
+
+
+def no_text_by_patterns(text):
+    """The first row that can't stand there, None where all can."""
+    texts = text.split("\n")
+    lacks = texts.pop() != ""
+    if lacks:
+        texts = text.split("\n")
+    head = re.compile(r"frozen ([1-9][0-9]{0,6})").fullmatch(texts[0]) if texts else None
+    if head is None:
+        return 0
+    stage, left = "head", int(head[1])
+    for at, row in enumerate(texts[1:], 1):
+        word = next((word for word, pattern in ROWS.items() if pattern.fullmatch(row)), None)
+        may = {"head": [], "new": ["thing"], "over": [], "stands": ["box", "inner"], "inner": []}[stage] + (["maker"] if left else [])
+        if word not in may:
+            return at
+        if word == "maker":
+            found = ROWS["maker"].fullmatch(row)
+            if found[1] == "set":
+                return at
+            left -= 1
+            stage = found[2] if found[2] in ("new", "over") else "stands"
+        elif word == "inner":
+            stage = "inner"
+    return len(texts) if lacks or left else None
+
+
+class Patterns(unittest.TestCase):
+    PARTS = [
+        "frozen 1", "frozen 2", "frozen 2", "frozen 3", "frozen 0", "frozen", "maker f new", "maker f 0", "maker g new", "maker g over",
+        "maker keep 1", "maker set new", "maker new new", "maker over over", "maker two 0", "thing 1", "thing none", "thing @1", "thing @01",
+        "box b 1", "box m @0", "box n none", "box p01 7", "box none 7", "box B 1", "inner @0", "inner 7", "inner @", "", "thing 12345678",
+    ]
+
+    def test_texts_of_drawn_rows(self):
+        chance = random.Random(5)
+        wrong = right = 0
+        one = House(WHOLE)
+        for _ in range(12000):
+            texts = [chance.choice(self.PARTS[:4])] + [chance.choice(self.PARTS[6:]) for _ in range(chance.randrange(5))]
+            text = chance.choice(["\n"] * 8 + ["", "\n\n", " \n"]).join(["\n".join(texts), ""])
+            ahead = len(one)
+            at = no_text_by_patterns(text)
+            if at is None:
+                right += 1
+                try:
+                    self.assertEqual(len(thaw(one, text)), len(one) - ahead)
+                except NoThaw:
+                    self.assertEqual(ahead, len(one))
+            else:
+                wrong += 1
+                refused(self, NoText, lambda: thaw(one, text), row=at)
+        self.assertGreater(right, 200)
+        self.assertGreater(wrong, 500)
+
+    def test_texts_with_signs_otherwise(self):
+        chance = random.Random(6)
+        one = House(WHOLE)
+        for _ in range(6000):
+            text = NoTexts.RIGHT
+            for _ in range(chance.choice([1, 1, 2])):
+                at = chance.randrange(len(text) + 1)
+                text = text[:at] + chance.choice(["", " ", "\n", "0", "1", "a", "@", "n", "A"]) + text[at + chance.randrange(3):]
+            ahead = len(one)
+            at = no_text_by_patterns(text)
+            if at is not None:
+                refused(self, NoText, lambda: thaw(one, text), row=at)
+                continue
+            try:
+                self.assertEqual(len(thaw(one, text)), len(one) - ahead)
+            except NoThaw:
+                self.assertEqual(ahead, len(one))
 
 
 class Chance(unittest.TestCase):

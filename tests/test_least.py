@@ -58,6 +58,8 @@ class Alike(unittest.TestCase):
             self.assertEqual([], alike(table(row), 0, table(row, **more), 0))
         self.assertEqual([], alike(table(row, lands={0: (0, "a")}), 0, table(row, lands={0: (0, "b")}), 0))
         self.assertEqual([], alike(table(row, lands={0: (0, "a")}), 0, table(row, closes={0: 0}), 0))
+        one, other = [table(row, lands={0: (0, box)}, closes={0: 0}) for box in "ab"]
+        self.assertEqual([], alike(one, 0, other, 0))
         self.assertIsNone(alike(table(END, lands={0: (0, "a")}), 0, table(END, lands={0: (0, "a")}), 0))
         self.assertEqual([], alike(table(END, lands={0: (0, "a")}), 0, table(END), 0))
 
