@@ -89,7 +89,7 @@ def read_way(table, number, box):
     if number not in distances:
         raise NoWay("no way to a row that reads it")
     way = [number]
-    for far in range(distances[number])[::-1]:
+    for far in reversed(range(distances[number])):
         way.append(min([target for target in _targets(table, way[-1], box) if distances.get(target) == far]))
     return way
 

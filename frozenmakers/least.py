@@ -109,7 +109,8 @@ class Parting:
         # The rows from which a step by a word leads to a row.
         self._sources = {}
         for number in range(len(table.rows)):
-            found.setdefault(_itself(table, number), {})[number] = True
+            members = found.setdefault(_itself(table, number), {})
+            members[number] = True
             for word, target in _goes_on(table, number).items():
                 self._sources.setdefault((word, target), []).append(number)
         self.group_of = [0] * len(table.rows)
@@ -134,7 +135,8 @@ class Parting:
             movers = {}
             for target in targets:
                 for number in self._sources.get((word, target), []):
-                    movers.setdefault(self.group_of[number], {})[number] = True
+                    members = movers.setdefault(self.group_of[number], {})
+                    members[number] = True
             for group, members in movers.items():
                 if len(members) < len(self._groups[group]):
                     self._split(group, members)

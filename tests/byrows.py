@@ -219,6 +219,13 @@ class Rows:
         return None
 
 
+class Unforgetting(Rows):
+    """The same, but its makers forget nothing."""
+
+    def forget(self, maker, kept):
+        pass
+
+
 def worth_of(expression, boxes):
     word = expression[0]
     if word in ("number", "none"):

@@ -4,6 +4,7 @@ import random
 import re
 import unittest
 
+from byrows import alive_rows
 from chance import chance_book
 from frozenmakers.books import BUSY, DEEP, MODULUS
 from frozenmakers.errors import NoMaker, NoText, NoThaw, NoWay, NoWorth, Pinned, Shared
@@ -496,6 +497,14 @@ class NoThaws(NoTexts):
             if number >= len(table.rows) or table.rows[number][0] not in ("give", "all"):
                 self.no_thaw(0, "frozen 1", f"maker f {number}")
                 self.no_thaw(0, "frozen 1", f"maker f {number}", "box b 1")
+        # Be it with just the boxes that are alive behind that row.
+        for name in ("f", "keep", "two"):
+            table = made({function.name: function for function in WHOLE.functions}[name])
+            for number, row in enumerate(table.rows):
+                boxes = [f"box {box} 1" for box in sorted(alive_rows(table)[1][number])]
+                if row[0] not in ("give", "all"):
+                    self.no_thaw(0, "frozen 1", f"maker {name} {number}", *boxes)
+                    self.no_thaw(0, "frozen 1", f"maker {name} {number}", *boxes, "inner @0")
 
     def test_boxes_kept(self):
         for texts in [[], ["box b 1", "box b 1"], ["box b 1", "box a 1"], ["box a 1", "box b 1"], ["box a 1"], ["box x 1"],

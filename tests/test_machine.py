@@ -9,7 +9,7 @@ import test_alive
 import test_among
 import test_leaving
 import test_plain
-from byrows import Long, Rows
+from byrows import Long, Rows, Unforgetting
 from chance import chance_book, chance_deeds, chosen
 from drawn import BOOK, LIVELY, PARAMS, drawn
 from frozenmakers.books import BUSY, DEEP, KIND, STUBBORN, Function
@@ -456,7 +456,7 @@ class Chance(unittest.TestCase):
             tables = {
                 name: drawn(seed * 3 + at, 2 + (seed + at) % 12, name, LIVELY, landing=0.8) for at, name in enumerate(PARAMS)
             }
-            one, rows = House(whole, tables=tables), Rows(tables, most=400)
+            one, rows, all_rows = House(whole, tables=tables), Rows(tables, most=400), Unforgetting(tables)
             for deed in chance_deeds(seed, 20):
                 way, *rest = chosen(deed, whole, one)
                 try:
@@ -465,6 +465,9 @@ class Chance(unittest.TestCase):
                     break
                 self.assertEqual(told, getattr(one, way)(*rest), (seed, deed))
                 self.assertEqual([rows.said, len(rows.makers)], [one.said(), len(one)])
+                # What isn't alive counts for nothing: one that keeps all tells the same.
+                self.assertEqual(told, all_rows.begin(*rest) if way == "begin" else all_rows.told(way, *rest))
+                self.assertEqual(rows.said, all_rows.said)
                 for k, each in rows.makers.items():
                     place = None if each.stage == "over" else each.row
                     self.assertEqual([each.stage, place, each.boxes, rows.held(k)], [one.state(k), one.place(k), one.boxes(k), one.held(k)])
