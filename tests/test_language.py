@@ -18,6 +18,11 @@ BARRED = {
     "open", "input", "eval", "exec", "compile", "globals", "locals", "vars", "dir", "hash", "id", "filter", "print", "float",
     "bytearray", "memoryview", "chr", "round", "slice", "callable", "delattr", "issubclass",
 }
+BARRED_WORDS = {
+    "register", "mro", "elements", "law", "typing", "enum", "Enum", "Flag", "Generic", "Protocol", "ABC", "namedtuple", "dataclass", "overload",
+    "contextmanager", "version_info", "with_traceback", "add_note", "_cold", "_outside", "_record", "_written_out", "_member_names",
+}
+BARRED_BEGINNINGS = ("_wall", "_pe_", "_dcw_", "_enum_", "_cm_", "_twin_re_", "_lay_", "_law_", "_stub_", "_sre", "_record", "_tuplegetter")
 BARRED_NODES = (ast.AsyncFunctionDef, ast.Await, ast.AsyncFor, ast.AsyncWith, ast.Div)
 # These take lists, for some classes of the package tell themselves what is equal to them.
 LISTED = {"any", "all", "min", "max", "sum", "sorted"}
@@ -106,6 +111,31 @@ class Rules(unittest.TestCase):
                 if isinstance(node, ast.Call):
                     passed = {each.id for each in node.args if isinstance(each, ast.Name)}
                     self.assertEqual(set(), passed & tables, (name, node.lineno))
+
+    def test_imports_are_used_and_go_round_in_no_circle(self):
+        leans = {}
+        for name, text in sources():
+            tree = ast.parse(text)
+            used = {node.id for node in ast.walk(tree) if isinstance(node, ast.Name)}
+            found = [node for node in tree.body if isinstance(node, ast.ImportFrom)]
+            for node in found:
+                self.assertEqual(set(), {each.name for each in node.names} - used, name)
+            leans[name] = {node.module.split(".")[-1] + ".py" for node in found}
+        left = dict(leans)
+        while left:
+            free = [name for name in left if not left[name] & set(left)]
+            self.assertNotEqual([], free, left)
+            left = {name: left[name] for name in left if name not in free}
+
+    def test_words_that_occur_nowhere(self):
+        for name, text in sources():
+            for node in ast.walk(ast.parse(text)):
+                if isinstance(node, ast.Constant) and type(node.value) is str:
+                    self.assertNotIn("%", node.value, (name, node.lineno))
+                    self.assertNotIn(node.value, BARRED_WORDS, (name, node.lineno))
+                for word in (getattr(node, "id", ""), getattr(node, "attr", ""), getattr(node, "name", ""), getattr(node, "arg", "")):
+                    self.assertNotIn(word, BARRED_WORDS, name)
+                    self.assertFalse((word or "").startswith(BARRED_BEGINNINGS), (name, word))
 
     def test_module_level(self):
         allowed = (ast.ImportFrom, ast.FunctionDef, ast.ClassDef, ast.Assign)
